@@ -85,14 +85,9 @@ func TestEqualArgumentsHaveEqualResults(t *testing.T) {
 	}
 }
 
-func TestCallsAtOnceHaveTheSameResults(t *testing.T) {
-	results := func() string {
-		var all []string
-		for _, a := range samples()[:30] {
-			all = append(all, unaryResults(a), binaryResults(a, 7), numberResults(a, 3), listResults([]impl.Nimber{a, 1, a, 500}))
-		}
-		return strings.Join(all, "\n")
-	}
+// wantSameAtOnce checks that results are the same when many calls run at once as they are alone.
+func wantSameAtOnce(t *testing.T, results func() string) {
+	t.Helper()
 	want := results()
 	got := make([]string, 8)
 	var group sync.WaitGroup
@@ -105,6 +100,17 @@ func TestCallsAtOnceHaveTheSameResults(t *testing.T) {
 			t.Errorf("call %d at once with others differs", i)
 		}
 	}
+}
+
+func TestCallsAtOnceHaveTheSameResults(t *testing.T) {
+	results := func() string {
+		var all []string
+		for _, a := range samples()[:30] {
+			all = append(all, unaryResults(a), binaryResults(a, 7), numberResults(a, 3), listResults([]impl.Nimber{a, 1, a, 500}))
+		}
+		return strings.Join(all, "\n")
+	}
+	wantSameAtOnce(t, results)
 }
 
 func TestListsAreNotModified(t *testing.T) {
