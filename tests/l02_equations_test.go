@@ -224,7 +224,17 @@ func TestCheckSolution(t *testing.T) {
 	}
 }
 
-// Senders that are not joined would be seen as more and more goroutines.
+// wantJoined checks that there are no more goroutines than before calls: those that are not joined would be more and more.
+func wantJoined(t *testing.T, before int) {
+	t.Helper()
+	for tries := 0; runtime.NumGoroutine() > before && tries < 1000000; tries++ {
+		runtime.Gosched()
+	}
+	if after := runtime.NumGoroutine(); after > before {
+		t.Errorf("%d goroutines before, and %d after", before, after)
+	}
+}
+
 func TestCheckSolutionLeavesNothingBehind(t *testing.T) {
 	m := matrixOf(oneTable(6))
 	before := runtime.NumGoroutine()
@@ -234,12 +244,7 @@ func TestCheckSolutionLeavesNothingBehind(t *testing.T) {
 		impl.CheckSolution(m, x, v)
 		impl.CheckSolution(m, x, x)
 	}
-	for tries := 0; runtime.NumGoroutine() > before && tries < 1000000; tries++ {
-		runtime.Gosched()
-	}
-	if after := runtime.NumGoroutine(); after > before {
-		t.Errorf("%d goroutines before, and %d after", before, after)
-	}
+	wantJoined(t, before)
 }
 
 func TestKernels(t *testing.T) {
