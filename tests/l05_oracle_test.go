@@ -53,8 +53,8 @@ func wantPoly(t *testing.T, name string, got impl.Poly, code int64, want func(x 
 	}
 }
 
-// wantList checks a polynomial that is known.
-func wantList(t *testing.T, name string, got impl.Poly, code int64, want impl.Poly) {
+// wantList checks a polynomial or a word that is known.
+func wantList[L ~[]impl.Nimber](t *testing.T, name string, got L, code int64, want L) {
 	t.Helper()
 	if code != impl.OK || !slices.Equal(got, want) {
 		t.Errorf("%s = %v, %d, want %v", name, got, code, want)
